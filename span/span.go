@@ -4,6 +4,7 @@ package span
 import (
 	"tailsure/api"
 	"tailsure/num"
+	"tailsure/ratio"
 	"tailsure/wide"
 )
 
@@ -60,16 +61,10 @@ func made(how func() (api.Span, api.Errno), spans ...api.Span) (api.Span, api.Er
 	return fit(s)
 }
 
-func rightBits(bits int) bool { return bits >= api.MinBits && bits <= api.MaxBits }
-
-func rightRatio(r api.Ratio) bool {
-	return r.Num >= -api.MaxNum && r.Num <= api.MaxNum && r.Den >= 1 && r.Den <= api.MaxDen
-}
-
 // Of a ratio.
 func Of(r api.Ratio, bits int) (api.Span, api.Errno) {
-	if !rightRatio(r) || !rightBits(bits) {
-		return api.Span{}, api.ErrRange
+	if e := ratio.Fault(bits, r); e != api.OK {
+		return api.Span{}, e
 	}
 	return wide.Of(num.Of(r.Num), num.Of(r.Den), bits), api.OK
 }
@@ -77,8 +72,8 @@ func Of(r api.Ratio, bits int) (api.Span, api.Errno) {
 // To other bits.
 func To(s api.Span, bits int) (api.Span, api.Errno) {
 	return made(func() (api.Span, api.Errno) {
-		if !rightBits(bits) {
-			return api.Span{}, api.ErrRange
+		if e := ratio.Fault(bits); e != api.OK {
+			return api.Span{}, e
 		}
 		return wide.To(s, bits), api.OK
 	}, s)

@@ -16,6 +16,16 @@ func sum(first api.Span, next func(last api.Span, n int) api.Span) api.Span {
 	return Add(out, api.Span{Lo: num.Neg(left), Hi: left, Bits: first.Bits})
 }
 
+// rising: the sum likewise, of what is nowhere below 0, and from number turn on, each counted from 0, at most half of the one ahead of it.
+func rising(first api.Span, turn int, next func(last api.Span, n int) api.Span) api.Span {
+	out, last := first, first
+	for n := 1; n <= turn || num.Len(last.Hi) > 1; n++ {
+		last = next(last, n)
+		out = Add(out, last)
+	}
+	return Add(out, api.Span{Hi: num.Of(1), Bits: first.Bits})
+}
+
 // halvings is by how many bits what goes into the series of Exp is below 1: more of them make it shorter, and cost more squares.
 const halvings = 8
 
@@ -23,15 +33,15 @@ const halvings = 8
 func Exp(a api.Span) api.Span {
 	times := max(0, num.Len(reach(a))-a.Bits+halvings)
 	small := api.Span{Lo: num.Down(a.Lo, times), Hi: ceilDown(a.Hi, times), Bits: a.Bits}
-	out := sum(one(a.Bits), func(last api.Span, n int) api.Span { return Over(Mul(last, small), n) })
+	out := sum(One(a.Bits), func(last api.Span, n int) api.Span { return Over(Mul(last, small), n) })
 	for range times {
 		out = Mul(out, out)
 	}
 	return out
 }
 
-// one: the span that has just 1.
-func one(bits int) api.Span { return Of(num.Of(1), num.Of(1), bits) }
+// One: the span that has just 1.
+func One(bits int) api.Span { return Of(num.Of(1), num.Of(1), bits) }
 
 // Log: the logarithm of the first number over the second one, both more than 0.
 func Log(n, d num.Int, bits int) api.Span {
@@ -62,7 +72,25 @@ func logNear(n, d num.Int, bits int) api.Span {
 	z := Of(num.Sub(n, d), num.Add(n, d), bits)
 	square := Mul(z, z)
 	half := sum(z, func(last api.Span, n int) api.Span {
-		return Over(Times(Mul(last, square), 2*n-1), 2*n+1)
+		return Scale(Mul(last, square), num.Of(2*n-1), num.Of(2*n+1))
 	})
 	return Times(half, 2)
+}
+
+// logSpan: the logarithm of one that has nothing but what is more than 0.
+func logSpan(a api.Span) api.Span {
+	unit := num.Up(num.Of(1), a.Bits)
+	return api.Span{Lo: Log(a.Lo, unit, a.Bits).Lo, Hi: Log(a.Hi, unit, a.Bits).Hi, Bits: a.Bits}
+}
+
+// pi, by Machin's rule.
+func pi(bits int) api.Span {
+	return Sub(Times(angle(5, bits), 16), Times(angle(239, bits), 4))
+}
+
+// angle whose tangent is 1 over n, which is 2 or more: the series of 1 over n, less that of its power of 3, over 3, and so on.
+func angle(n, bits int) api.Span {
+	return sum(Of(num.Of(1), num.Of(n), bits), func(last api.Span, k int) api.Span {
+		return Opposite(Scale(last, num.Of(2*k-1), num.Of((2*k+1)*n*n)))
+	})
 }

@@ -27,3 +27,12 @@ func Least(all ...num.Int) num.Int { return farthest(-1, all) }
 
 // Most: the greatest one of some numbers.
 func Most(all ...num.Int) num.Int { return farthest(1, all) }
+
+// small: a number from 0 on that is not too great, as one of the language.
+func small(a num.Int) int {
+	out := 0
+	for i := len(a.Digits) - 1; i >= 0; i-- {
+		out = out<<16 | int(a.Digits[i])
+	}
+	return out
+}

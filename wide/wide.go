@@ -62,15 +62,18 @@ func Root(a api.Span) api.Span {
 	return api.Span{Lo: num.Root(num.Up(a.Lo, a.Bits)), Hi: hi, Bits: a.Bits}
 }
 
+// Scale: one times the first number, which is from 0 on, over the second one, which is more than 0.
+func Scale(a api.Span, n, d num.Int) api.Span {
+	return api.Span{Lo: num.Floor(num.Mul(a.Lo, n), d), Hi: ceil(num.Mul(a.Hi, n), d), Bits: a.Bits}
+}
+
 // Times a number from 0 on.
 func Times(a api.Span, n int) api.Span {
 	return api.Span{Lo: num.Mul(a.Lo, num.Of(n)), Hi: num.Mul(a.Hi, num.Of(n)), Bits: a.Bits}
 }
 
 // Over a number that is more than 0.
-func Over(a api.Span, n int) api.Span {
-	return api.Span{Lo: num.Floor(a.Lo, num.Of(n)), Hi: ceil(a.Hi, num.Of(n)), Bits: a.Bits}
-}
+func Over(a api.Span, n int) api.Span { return Scale(a, num.Of(1), num.Of(n)) }
 
 // reach: the greater one of both ends, without their signs.
 func reach(a api.Span) num.Int { return Most(a.Hi, num.Neg(a.Lo)) }

@@ -1,0 +1,24 @@
+// Package ratio: what the layers ask of ratios and of bits that are handed to them.
+package ratio
+
+import "tailsure/api"
+
+// Fault of bits and of some ratios: ErrRange, if one of them is not right.
+func Fault(bits int, ratios ...api.Ratio) api.Errno {
+	if bits < api.MinBits || bits > api.MaxBits {
+		return api.ErrRange
+	}
+	for _, r := range ratios {
+		if !right(r) {
+			return api.ErrRange
+		}
+	}
+	return api.OK
+}
+
+func right(r api.Ratio) bool {
+	return r.Num >= -api.MaxNum && r.Num <= api.MaxNum && r.Den >= 1 && r.Den <= api.MaxDen
+}
+
+// Within: is a ratio, which is right, from -n to n?
+func Within(r api.Ratio, n int) bool { return r.Num >= -n*r.Den && r.Num <= n*r.Den }
