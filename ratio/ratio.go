@@ -22,3 +22,17 @@ func right(r api.Ratio) bool {
 
 // Within: is a ratio, which is right, from -n to n?
 func Within(r api.Ratio, n int) bool { return r.Num >= -n*r.Den && r.Num <= n*r.Den }
+
+// ShapeFault of some ratios, which are right, as shapes of the gamma and the beta function: ErrNone, if one is not more than 0; else ErrMany, if one is more than MaxGamma.
+func ShapeFault(ratios ...api.Ratio) api.Errno {
+	e := api.OK
+	for _, r := range ratios {
+		switch {
+		case r.Num <= 0:
+			return api.ErrNone
+		case !Within(r, api.MaxGamma):
+			e = api.ErrMany
+		}
+	}
+	return e
+}

@@ -82,15 +82,6 @@ func TestC1Least(t *testing.T) {
 	})
 }
 
-// within: no end of a span is beyond two whole numbers.
-func within(t *testing.T, c call, bits, from, to int) {
-	t.Helper()
-	lo, hi := ends(c.span(t, bits))
-	if lo.Cmp(rat(ratio(from, 1))) < 0 || hi.Cmp(rat(ratio(to, 1))) > 0 {
-		t.Errorf("%s by %d bits: from %v to %v", c.name, bits, lo, hi)
-	}
-}
-
 // TestC1Ends: none is beyond what there is.
 func TestC1Ends(t *testing.T) {
 	for bits := api.MinBits; bits <= api.MaxBits; bits++ {
@@ -107,9 +98,7 @@ func TestC1Ends(t *testing.T) {
 // TestC1Far: far from 0 nothing is left but the last bit.
 func TestC1Far(t *testing.T) {
 	for _, bits := range allBits {
-		one := whole(1, bits)
-		unit := span1(bits)
-		top, _ := span.Sub(one, unit)
+		one, unit, top := whole(1, bits), unitSpan(bits), topSpan(bits)
 		for _, n := range []int{20, 1000, api.MaxNum} {
 			r, opposite := ratio(n, 1), ratio(-n, 1)
 			two, _ := span.Add(one, top)
@@ -120,19 +109,10 @@ func TestC1Far(t *testing.T) {
 			}{
 				{erf(r), top}, {erf(opposite), below}, {erfc(r), unit}, {erfc(opposite), two}, {normal(r), top}, {normal(opposite), unit},
 			} {
-				if s := row.call.span(t, bits); !same(s, row.want) {
-					t.Errorf("%s: it is %v and must be %v", row.call.name, s, row.want)
-				}
+				row.call.is(t, row.want)
 			}
 		}
 	}
-}
-
-// span1: from 0 to the last bit.
-func span1(bits int) api.Span {
-	s := whole(0, bits)
-	s.Hi.Digits = []uint16{1}
-	return s
 }
 
 // TestC2Opposite: the error function of the opposite is the opposite, and both make 1 with the rest, so far as spans tell.
@@ -157,10 +137,7 @@ func TestC2Order(t *testing.T) {
 			made func(api.Ratio) call
 			want int
 		}{{erf, -1}, {erfc, 1}, {normal, -1}} {
-			a, b := row.made(ratio(n, 10)), row.made(ratio(n+1, 10))
-			if got, _ := span.Order(a.span(t, 100), b.span(t, 100)); got != row.want {
-				t.Errorf("%s and %s: %d", a.name, b.name, got)
-			}
+			ordered(t, row.made(ratio(n, 10)), row.made(ratio(n+1, 10)), 100, row.want)
 		}
 	}
 }

@@ -18,6 +18,11 @@ func comparedTo(x *big.Float) func(end *big.Rat) int {
 	return func(end *big.Rat) int { return float(end).Cmp(x) }
 }
 
+// comparedToRatio: likewise, without any rest.
+func comparedToRatio(x *big.Rat) func(end *big.Rat) int {
+	return func(end *big.Rat) int { return end.Cmp(x) }
+}
+
 // raisedTo: on which side of a number e to the power of an end is.
 func raisedTo(x *big.Float) func(end *big.Rat) int {
 	return func(end *big.Rat) int { return expOf(float(end)).Cmp(x) }
@@ -117,4 +122,41 @@ func gammaAt(x *big.Rat) *big.Float {
 func betaAt(x, y *big.Rat) *big.Float {
 	out := new(big.Float).Mul(gammaAt(x), gammaAt(y))
 	return out.Quo(out, gammaAt(new(big.Rat).Add(x, y)))
+}
+
+// powOf: x, which is more than 0, to the power of k, nearly.
+func powOf(x, k *big.Rat) *big.Float {
+	y := logOf(float(x))
+	return expOf(y.Mul(y, float(k)))
+}
+
+// lowerAt: the lower part of the gamma function of a, up to x, nearly: by the plain series in which signs change.
+func lowerAt(a, x *big.Rat) *big.Float {
+	if x.Sign() == 0 {
+		return whole64(0)
+	}
+	power, out := whole64(1), whole64(0)
+	for n := int64(0); power.MantExp(nil) > -prec/2; n++ {
+		if n > 0 {
+			power.Neg(power.Quo(power.Mul(power, float(x)), whole64(n)))
+		}
+		out.Add(out, new(big.Float).Quo(power, float(new(big.Rat).Add(a, big.NewRat(n, 1)))))
+	}
+	return out.Quo(out.Mul(out, powOf(x, a)), gammaAt(a))
+}
+
+// partAt: the part of the beta function of a and b, up to x, which is at most one half, nearly: by the plain series of 1 less t to the power of b less 1, in which signs may change.
+func partAt(x, a, b *big.Rat) *big.Float {
+	if x.Sign() == 0 {
+		return whole64(0)
+	}
+	factor, out := whole64(1), whole64(0)
+	for n := int64(0); factor.Sign() != 0 && factor.MantExp(nil) > -prec/2; n++ {
+		if n > 0 {
+			less := new(big.Rat).Sub(big.NewRat(n, 1), b)
+			factor.Mul(factor, float(less.Mul(less, x))).Quo(factor, whole64(n))
+		}
+		out.Add(out, new(big.Float).Quo(factor, float(new(big.Rat).Add(a, big.NewRat(n, 1)))))
+	}
+	return out.Quo(out.Mul(out, powOf(x, a)), betaAt(a, b))
 }

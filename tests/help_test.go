@@ -8,11 +8,13 @@ import (
 	"testing"
 
 	"tailsure/api"
+	"tailsure/beta"
 	"tailsure/errorf"
 	"tailsure/gamma"
 	"tailsure/num"
 	"tailsure/power"
 	"tailsure/span"
+	"tailsure/upper"
 )
 
 var allBits = []int{api.MinBits, 9, 20, 33, 64, 119, api.MaxBits}
@@ -62,6 +64,12 @@ func ofTwo(name string, f func(a, b api.Ratio, bits int) (api.Span, api.Errno)) 
 	}
 }
 
+func ofThree(name string, f func(x, a, b api.Ratio, bits int) (api.Span, api.Errno)) func(x, a, b api.Ratio) call {
+	return func(x, a, b api.Ratio) call {
+		return call{fmt.Sprint(name, x, a, b), func(bits int) (api.Span, api.Errno) { return f(x, a, b, bits) }}
+	}
+}
+
 var (
 	exp      = ofOne("Exp", power.Exp)
 	log      = ofOne("Log", power.Log)
@@ -72,11 +80,17 @@ var (
 	logGamma = ofOne("LogGamma", gamma.LogGamma)
 	gammaOf  = ofOne("Gamma", gamma.Gamma)
 	logBeta  = ofTwo("LogBeta", gamma.LogBeta)
+	lower    = ofTwo("Lower", upper.Lower)
+	upperOf  = ofTwo("Upper", upper.Upper)
+	part     = ofThree("Part", beta.Part)
 )
 
 // every call, of ratios.
 func every(r, k api.Ratio) []call {
-	return []call{exp(r), log(r), pow(r, k), erf(r), erfc(r), normal(r), logGamma(r), gammaOf(r), logBeta(r, k)}
+	return []call{
+		exp(r), log(r), pow(r, k), erf(r), erfc(r), normal(r), logGamma(r), gammaOf(r), logBeta(r, k),
+		lower(r, k), upperOf(r, k), part(k, r, r), part(k, r, ratio(7, 3)), part(ratio(2, 5), k, r),
+	}
 }
 
 // span of a call: it must be by those bits, right, and narrow by 4.
@@ -151,8 +165,49 @@ func meets(t *testing.T, what string, x, y, z api.Span, made func(a, b api.Span)
 	}
 }
 
-// whole number as a span.
-func whole(n, bits int) api.Span {
-	s, _ := span.Of(ratio(n, 1), bits)
+// just one ratio, as near as a span can tell.
+func just(r api.Ratio, bits int) api.Span {
+	s, _ := span.Of(r, bits)
 	return s
+}
+
+// whole number as a span.
+func whole(n, bits int) api.Span { return just(ratio(n, 1), bits) }
+
+// unitSpan: from 0 to the last bit.
+func unitSpan(bits int) api.Span {
+	s := whole(0, bits)
+	s.Hi.Digits = []uint16{1}
+	return s
+}
+
+// topSpan: from the last bit below 1 to 1.
+func topSpan(bits int) api.Span {
+	s, _ := span.Sub(whole(1, bits), unitSpan(bits))
+	return s
+}
+
+// is: a call answers just this span.
+func (c call) is(t *testing.T, want api.Span) {
+	t.Helper()
+	if s := c.span(t, want.Bits); !same(s, want) {
+		t.Errorf("%s by %d bits: it is %v and must be %v", c.name, want.Bits, s, want)
+	}
+}
+
+// within: no end of a span is beyond two whole numbers.
+func within(t *testing.T, c call, bits, from, to int) {
+	t.Helper()
+	lo, hi := ends(c.span(t, bits))
+	if lo.Cmp(rat(ratio(from, 1))) < 0 || hi.Cmp(rat(ratio(to, 1))) > 0 {
+		t.Errorf("%s by %d bits: from %v to %v", c.name, bits, lo, hi)
+	}
+}
+
+// ordered: all of the first one's span is less than all of the second one's (-1), or more (1).
+func ordered(t *testing.T, a, b call, bits, want int) {
+	t.Helper()
+	if got, e := span.Order(a.span(t, bits), b.span(t, bits)); got != want || e != api.OK {
+		t.Errorf("%s and %s: %d, error %v", a.name, b.name, got, e)
+	}
 }

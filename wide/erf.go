@@ -7,17 +7,13 @@ import (
 
 // Erf: the error function of the root of the first number, which is from 0 on, over the second one, which is more than 0. With x that root, it is 2 over the root of pi and over e to the power of x^2, times the series of x, x times 2x^2 over 3, that times 2x^2 over 5, and so on: nothing is taken away in it. No end is beyond 0 or 1.
 func Erf(n, d num.Int, bits int) api.Span {
-	one := One(bits)
 	if num.Cmp(n, num.Mul(d, num.Of(bits))) >= 0 { // what is left up to 1 is not more than e to the power of -x^2, and so less than the last bit
-		one.Lo = num.Sub(one.Lo, num.Of(1))
-		return one
+		return nearlyOne(bits)
 	}
 	double := num.Up(n, 1)
 	turn := small(num.Floor(double, d))
 	series := rising(Root(Of(n, d, bits)), turn, func(last api.Span, k int) api.Span {
 		return Scale(last, double, num.Mul(d, num.Of(2*k+1)))
 	})
-	out := Div(Times(series, 2), Mul(Root(pi(bits)), Exp(Of(n, d, bits))))
-	out.Hi = Least(out.Hi, one.Hi)
-	return out
+	return upToOne(Div(Times(series, 2), Mul(Root(pi(bits)), Exp(Of(n, d, bits)))))
 }

@@ -22,6 +22,12 @@ func TestFewBitsHoldMany(t *testing.T) {
 		"Log":      func(n, d, bits int) api.Span { return wide.Log(num.Of(n), num.Of(d), bits) },
 		"Gamma":    wide.Gamma,
 		"LogGamma": wide.LogGamma,
+		"Lower": func(n, d, bits int) api.Span {
+			return wide.Lower(api.Ratio{Num: n, Den: 3}, num.Of(7*n), num.Of(3*d), bits)
+		},
+		"Part": func(n, d, bits int) api.Span {
+			return wide.Part(num.Of(n), num.Of(n+7*d), api.Ratio{Num: n, Den: 3}, api.Ratio{Num: d*d + n, Den: d}, bits)
+		},
 	} {
 		for bits := 24; bits < 64; bits++ {
 			for n := 1; n < 40; n++ {
@@ -52,5 +58,47 @@ func TestGammaByMoreBits(t *testing.T) {
 		if !overlap(s, wide.Of(num.Of(row[2]), num.Of(1), 600)) || num.Len(num.Sub(s.Hi, s.Lo)) > 28 {
 			t.Errorf("of %d over %d: %v", row[0], row[1], s)
 		}
+	}
+}
+
+// TestPartsOfGreatNumbers: only their quotient counts; and what is small against them counts too.
+func TestPartsOfGreatNumbers(t *testing.T) {
+	great := num.Up(num.Of(12345), 90)
+	a, b := api.Ratio{Num: 7, Den: 3}, api.Ratio{Num: 1, Den: 2048}
+	for n := 0; n <= 60; n += 5 {
+		x, many := num.Of(n), num.Mul(great, num.Of(n))
+		for name, both := range map[string][2]api.Span{
+			"Lower": {wide.Lower(a, x, num.Of(3), 120), wide.Lower(a, many, num.Mul(great, num.Of(3)), 120)},
+			"Part":  {wide.Part(x, num.Of(60), a, b, 120), wide.Part(many, num.Mul(great, num.Of(60)), a, b, 120)},
+		} {
+			if !overlap(both[0], both[1]) || num.Len(num.Sub(both[1].Hi, both[1].Lo)) > 28 {
+				t.Errorf("%s of %d: %v and %v", name, n, both[0], both[1])
+			}
+		}
+	}
+}
+
+// TestPartUpToVeryLittle: that of two halves, up to x, is 2 over pi times the angle whose sine is the root of x; which, if it is 2 to the power of -45, is that and less than 2 to the power of -135 more.
+func TestPartUpToVeryLittle(t *testing.T) {
+	half := api.Ratio{Num: 1, Den: 2}
+	s := wide.Part(num.Of(1), num.Up(num.Of(1), 90), half, half, 200)
+	rootOfPi := wide.Gamma(1, 2, 200)
+	angle := api.Span{Lo: num.Up(num.Of(1), 200-45), Hi: num.Add(num.Up(num.Of(1), 200-45), num.Up(num.Of(1), 200-135)), Bits: 200}
+	if want := wide.Div(wide.Times(angle, 2), wide.Mul(rootOfPi, rootOfPi)); !overlap(s, want) || num.Len(num.Sub(s.Hi, s.Lo)) > 28 {
+		t.Errorf("it is %v and must be %v", s, want)
+	}
+}
+
+// TestPartsAtTheirEnds are just 0 and 1, also by more bits.
+func TestPartsAtTheirEnds(t *testing.T) {
+	a, b := api.Ratio{Num: 7, Den: 3}, api.Ratio{Num: 1, Den: 2048}
+	for want, s := range map[int]api.Span{0: wide.Part(num.Of(0), num.Of(5), a, b, 300), 1: wide.Part(num.Of(5), num.Of(5), a, b, 300)} {
+		one := num.Up(num.Of(want), 300)
+		if num.Cmp(s.Lo, one) != 0 || num.Cmp(s.Hi, one) != 0 {
+			t.Errorf("it is %v and must be %d", s, want)
+		}
+	}
+	if s := wide.Lower(a, num.Of(0), num.Of(5), 300); num.Sign(s.Lo) != 0 || num.Sign(s.Hi) != 0 {
+		t.Errorf("it is %v and must be 0", s)
 	}
 }

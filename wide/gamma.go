@@ -18,6 +18,18 @@ func LogGamma(n, d, bits int) api.Span {
 	return Add(logSpan(gammaBelow(n, d, bits)), Log(p, q, bits))
 }
 
+// LogBeta: the logarithm of the beta function of a and b, both more than 0.
+func LogBeta(a, b api.Ratio, bits int) api.Span {
+	both := sumOf(a, b)
+	each := Add(LogGamma(a.Num, a.Den, bits), LogGamma(b.Num, b.Den, bits))
+	return Sub(each, LogGamma(both.Num, both.Den, bits))
+}
+
+// sumOf two ratios, which may be greater than a right one.
+func sumOf(a, b api.Ratio) api.Ratio {
+	return api.Ratio{Num: a.Num*b.Den + b.Num*a.Den, Den: a.Den * b.Den}
+}
+
 // steps down from n over d, each by 1, until it is not more than 1: what n is then, and the quotient of two numbers by which the gamma function was more.
 func steps(n, d int) (int, num.Int, num.Int) {
 	p, q := num.Of(1), num.Of(1)

@@ -16,14 +16,14 @@ func sum(first api.Span, next func(last api.Span, n int) api.Span) api.Span {
 	return Add(out, api.Span{Lo: num.Neg(left), Hi: left, Bits: first.Bits})
 }
 
-// rising: the sum likewise, of what is nowhere below 0, and from number turn on, each counted from 0, at most half of the one ahead of it.
+// rising: the sum likewise, of what is nowhere below 0, and behind number turn, each counted from 0, at most three quarters of the one ahead of it: so all that is left out is at most three times the last one that was taken, which is at most 3: rounded up, three quarters of what is more than that are less than it, and so it ends.
 func rising(first api.Span, turn int, next func(last api.Span, n int) api.Span) api.Span {
 	out, last := first, first
-	for n := 1; n <= turn || num.Len(last.Hi) > 1; n++ {
+	for n := 1; n <= turn || num.Len(last.Hi) > 2; n++ {
 		last = next(last, n)
 		out = Add(out, last)
 	}
-	return Add(out, api.Span{Hi: num.Of(1), Bits: first.Bits})
+	return Add(out, api.Span{Hi: num.Of(9), Bits: first.Bits})
 }
 
 // halvings is by how many bits what goes into the series of Exp is below 1: more of them make it shorter, and cost more squares.
