@@ -2,7 +2,6 @@ package power
 
 import (
 	"tailsure/api"
-	"tailsure/num"
 	"tailsure/wide"
 )
 
@@ -17,7 +16,7 @@ func exact(r, k api.Ratio, bits int) (api.Span, bool) {
 	if k.Num < 0 {
 		n, d, k.Num = d, n, -k.Num
 	}
-	return wide.Of(raised(n, k.Num), raised(d, k.Num), bits), true
+	return wide.Of(wide.Raised(n, k.Num), wide.Raised(d, k.Num), bits), true
 }
 
 // lowest: the same ratio, in lowest terms.
@@ -48,16 +47,4 @@ func bounded(x, k, n int) int {
 		p *= x
 	}
 	return p
-}
-
-// raised: a to the power of k.
-func raised(a, k int) num.Int {
-	out, square := num.Of(1), num.Of(a)
-	for ; k > 0; k /= 2 {
-		if k%2 == 1 {
-			out = num.Mul(out, square)
-		}
-		square = num.Mul(square, square)
-	}
-	return out
 }

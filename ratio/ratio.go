@@ -9,14 +9,15 @@ func Fault(bits int, ratios ...api.Ratio) api.Errno {
 		return api.ErrRange
 	}
 	for _, r := range ratios {
-		if !right(r) {
+		if !Right(r) {
 			return api.ErrRange
 		}
 	}
 	return api.OK
 }
 
-func right(r api.Ratio) bool {
+// Right: Num is from -MaxNum to MaxNum, and Den from 1 to MaxDen.
+func Right(r api.Ratio) bool {
 	return r.Num >= -api.MaxNum && r.Num <= api.MaxNum && r.Den >= 1 && r.Den <= api.MaxDen
 }
 

@@ -24,6 +24,7 @@ func hasPart(t *testing.T, x, a, b api.Ratio, someBits ...int) {
 }
 
 func TestF1(t *testing.T) {
+	t.Parallel()
 	shapes := []api.Ratio{ratio(1, 1), ratio(1, 2), ratio(1, 100), ratio(1, 1024), ratio(1022, 1023), ratio(33, 10), ratio(7, 1), ratio(100, 1), ratio(102399, 1024)}
 	some := []api.Ratio{ratio(0, 1), ratio(1, 1024), ratio(1, 3), ratio(2, 5), ratio(511, 1023), ratio(1, 2), ratio(5, 10)}
 	for i, a := range shapes {
@@ -56,6 +57,7 @@ func wholePart(x *big.Rat, a, b int64) *big.Rat {
 
 // TestF1Whole: with whole numbers it is a ratio, which many a span has at its end.
 func TestF1Whole(t *testing.T) {
+	t.Parallel()
 	for a := 1; a <= 9; a++ {
 		for b := 1; b <= 9; b++ {
 			for n, d := range []int{1, 2, 3, 4, 8, 10, 16} {
@@ -124,6 +126,7 @@ func TestF1Least(t *testing.T) {
 
 // TestF1Ends: none is beyond 0 or 1; of x 0 it is just 0, of x 1 just 1.
 func TestF1Ends(t *testing.T) {
+	t.Parallel()
 	shapes := []api.Ratio{ratio(1, 1024), ratio(1, 1), ratio(7, 3), ratio(100, 1)}
 	for bits := api.MinBits; bits <= api.MaxBits; bits++ {
 		for i, a := range shapes {
@@ -159,6 +162,7 @@ func TestF2Order(t *testing.T) {
 
 // TestF2One: where a and b are 1 it is x; where only b is 1, x to the power of a.
 func TestF2One(t *testing.T) {
+	t.Parallel()
 	for bits := api.MinBits; bits <= api.MaxBits; bits++ {
 		for _, d := range []int{1, 2, 3, 64, 1000, 1024} {
 			x := ratio(bits*7%(d+1), d)

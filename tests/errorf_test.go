@@ -84,6 +84,7 @@ func TestC1Least(t *testing.T) {
 
 // TestC1Ends: none is beyond what there is.
 func TestC1Ends(t *testing.T) {
+	t.Parallel()
 	for bits := api.MinBits; bits <= api.MaxBits; bits++ {
 		for _, n := range []int{0, 1, 2, 3, 5, 6, 9, 11, 12, 13, 17, 100, api.MaxNum - 1, api.MaxNum} {
 			for _, r := range []api.Ratio{ratio(n, 1), ratio(-n, 1), ratio(n, api.MaxDen)} {

@@ -4,6 +4,8 @@ import (
 	"math"
 	"math/big"
 	"sync"
+
+	"tailsure/api"
 )
 
 // prec is with how many bits the tests reckon on their own.
@@ -159,4 +161,85 @@ func partAt(x, a, b *big.Rat) *big.Float {
 		out.Add(out, new(big.Float).Quo(factor, float(new(big.Rat).Add(a, big.NewRat(n, 1)))))
 	}
 	return out.Quo(out.Mul(out, powOf(x, a)), betaAt(a, b))
+}
+
+// wholeAt: the part of a and b up to any x from 0 to 1.
+func wholeAt(x, a, b *big.Rat) *big.Float {
+	if x.Cmp(big.NewRat(1, 2)) <= 0 {
+		return partAt(x, a, b)
+	}
+	rest := partAt(new(big.Rat).Sub(big.NewRat(1, 1), x), b, a)
+	return rest.Sub(whole64(1), rest)
+}
+
+// studentAt: with the angle of x over the root of a, it is not made of A over (A and the square of x), but of the other side.
+func studentAt(a, x *big.Rat) *big.Float {
+	square := new(big.Rat).Mul(x, x)
+	side := new(big.Rat).Quo(square, new(big.Rat).Add(a, square))
+	out := wholeAt(side, big.NewRat(1, 2), new(big.Rat).Mul(a, big.NewRat(1, 2)))
+	if x.Sign() < 0 {
+		out.Neg(out)
+	}
+	return out.Quo(out.Add(out, whole64(1)), whole64(2))
+}
+
+// rareAt: how likely it is, by LawRare with this mean, that just n comes, nearly.
+func rareAt(mean *big.Rat, n int) *big.Float {
+	out := expOf(new(big.Float).Neg(float(mean)))
+	for k := 1; k <= n; k++ {
+		out.Quo(out.Mul(out, float(mean)), whole64(int64(k)))
+	}
+	return out
+}
+
+// countAt: how likely it is, by LawCount, that just n comes.
+func countAt(l api.Law, n int) *big.Rat {
+	b := rat(l.B)
+	rest := new(big.Rat).Sub(big.NewRat(1, 1), b)
+	out := new(big.Rat).SetInt(new(big.Int).Binomial(int64(l.A.Num), int64(n)))
+	for k := range l.A.Num {
+		if k < n {
+			out.Mul(out, b)
+		} else {
+			out.Mul(out, rest)
+		}
+	}
+	return out
+}
+
+// belowAt: how likely it is, by a law, that at most x comes, nearly.
+func belowAt(l api.Law, x *big.Rat) *big.Float {
+	a, b := rat(l.A), rat(l.B)
+	switch l.Kind {
+	case api.LawNormal:
+		far := float(new(big.Rat).Quo(new(big.Rat).Sub(x, a), b))
+		half := erfOf(far.Quo(far, new(big.Float).Sqrt(whole64(2))))
+		return half.Quo(half.Add(half, whole64(1)), whole64(2))
+	case api.LawStudent:
+		return studentAt(a, x)
+	}
+	if x.Sign() < 0 {
+		return whole64(0)
+	}
+	one, sum := big.NewRat(1, 1), whole64(0)
+	switch l.Kind {
+	case api.LawWait:
+		power := new(big.Rat).Mul(a, x)
+		return sum.Sub(whole64(1), expOf(float(power.Neg(power))))
+	case api.LawGamma:
+		return lowerAt(a, new(big.Rat).Mul(b, x))
+	case api.LawBeta:
+		if x.Cmp(one) >= 0 {
+			return whole64(1)
+		}
+		return wholeAt(x, a, b)
+	}
+	for n := 0; x.Cmp(big.NewRat(int64(n), 1)) >= 0; n++ {
+		if l.Kind == api.LawRare {
+			sum.Add(sum, rareAt(a, n))
+		} else {
+			sum.Add(sum, float(countAt(l, n)))
+		}
+	}
+	return sum
 }

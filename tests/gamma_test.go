@@ -20,6 +20,7 @@ func hasGammas(t *testing.T, r api.Ratio, someBits ...int) {
 }
 
 func TestD1(t *testing.T) {
+	t.Parallel()
 	for _, r := range []api.Ratio{
 		ratio(1, 1), ratio(2, 1), ratio(3, 1), ratio(5, 1), ratio(10, 1), ratio(99, 1), ratio(100, 1), ratio(102400, 1024), ratio(102399, 1024),
 		ratio(1, 2), ratio(3, 2), ratio(1, 3), ratio(40, 7), ratio(33, 10), ratio(1, 1024), ratio(1023, 1024), ratio(1025, 1024), ratio(3000, 1000),
@@ -32,6 +33,7 @@ func TestD1(t *testing.T) {
 }
 
 func TestD1LogBeta(t *testing.T) {
+	t.Parallel()
 	some := []api.Ratio{ratio(1, 1), ratio(1, 2), ratio(7, 3), ratio(1, 1024), ratio(1022, 1023), ratio(40, 7), ratio(100, 1), ratio(102399, 1024)}
 	for i, a := range some {
 		for k, b := range some {
@@ -121,6 +123,7 @@ func TestD2Steps(t *testing.T) {
 
 // TestD2One: that of 1 and of 2 is 1, and its logarithm 0.
 func TestD2One(t *testing.T) {
+	t.Parallel()
 	for bits := api.MinBits; bits <= api.MaxBits; bits++ {
 		for _, r := range []api.Ratio{ratio(1, 1), ratio(2, 1), ratio(7, 7), ratio(2048, 1024)} {
 			meets(t, "Gamma", gammaOf(r).span(t, bits), whole(0, bits), whole(1, bits), span.Add)

@@ -11,6 +11,7 @@ import (
 	"tailsure/beta"
 	"tailsure/errorf"
 	"tailsure/gamma"
+	"tailsure/law"
 	"tailsure/num"
 	"tailsure/power"
 	"tailsure/span"
@@ -85,12 +86,40 @@ var (
 	part     = ofThree("Part", beta.Part)
 )
 
-// every call, of ratios.
+// zero is what B must be, of a law that is made of A alone.
+var zero = ratio(0, 1)
+
+func lawOf(kind int, a, b api.Ratio) api.Law { return api.Law{Kind: kind, A: a, B: b} }
+
+func below(l api.Law, x api.Ratio) call {
+	return call{fmt.Sprint("Below", l, x), func(bits int) (api.Span, api.Errno) { return law.Below(l, x, bits) }}
+}
+
+func above(l api.Law, x api.Ratio) call {
+	return call{fmt.Sprint("Above", l, x), func(bits int) (api.Span, api.Errno) { return law.Above(l, x, bits) }}
+}
+
+func mass(l api.Law, n int) call {
+	return call{fmt.Sprint("Mass", l, n), func(bits int) (api.Span, api.Errno) { return law.Mass(l, n, bits) }}
+}
+
+// every call, of ratios, but those of laws.
 func every(r, k api.Ratio) []call {
 	return []call{
 		exp(r), log(r), pow(r, k), erf(r), erfc(r), normal(r), logGamma(r), gammaOf(r), logBeta(r, k),
 		lower(r, k), upperOf(r, k), part(k, r, r), part(k, r, ratio(7, 3)), part(ratio(2, 5), k, r),
 	}
+}
+
+// everyLaw: every call of laws that answers a span, of ratios.
+func everyLaw(r, k api.Ratio) []call {
+	out := []call{below(lawOf(r.Num, r, k), r), above(lawOf(k.Den, k, r), k), mass(lawOf(r.Den, r, k), k.Num)}
+	for kind := api.LawNormal; kind <= api.LawRare; kind++ {
+		for _, l := range []api.Law{lawOf(kind, r, k), lawOf(kind, r, zero), lawOf(kind, ratio(7, 1), k), lawOf(kind, ratio(7, 1), ratio(1, 3)), lawOf(kind, ratio(7, 1), zero)} {
+			out = append(out, below(l, r), above(l, k), mass(l, r.Num))
+		}
+	}
+	return out
 }
 
 // span of a call: it must be by those bits, right, and narrow by 4.

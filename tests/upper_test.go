@@ -21,6 +21,7 @@ func hasParts(t *testing.T, a, x api.Ratio, someBits ...int) {
 }
 
 func TestE1(t *testing.T) {
+	t.Parallel()
 	for i, a := range []api.Ratio{
 		ratio(1, 1), ratio(1, 2), ratio(1, 100), ratio(1, 1024), ratio(1023, 1024), ratio(5, 1), ratio(10, 2), ratio(33, 10), ratio(40, 7), ratio(100, 1), ratio(102399, 1024),
 	} {
@@ -132,6 +133,7 @@ func TestE2Together(t *testing.T) {
 
 // TestE2Order: with more x the lower one is more, and the upper one less; with more a it is the other way round.
 func TestE2Order(t *testing.T) {
+	t.Parallel()
 	for n := 0; n < 60; n++ {
 		for _, a := range []api.Ratio{ratio(1, 1024), ratio(1, 2), ratio(1, 1), ratio(33, 10), ratio(12, 1)} {
 			x, more := ratio(n, 4), ratio(n+1, 4)

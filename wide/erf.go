@@ -17,3 +17,12 @@ func Erf(n, d num.Int, bits int) api.Span {
 	})
 	return upToOne(Div(Times(series, 2), Mul(Root(pi(bits)), Exp(Of(n, d, bits)))))
 }
+
+// Normal: half of 1 and the error function of x over the root of 2; x is the first number over the second one, which is more than 0. It is made of the rest of the error function of the opposite: so no end is beyond 0 or 1.
+func Normal(n, d num.Int, bits int) api.Span {
+	s := Erf(num.Mul(n, n), num.Up(num.Mul(d, d), 1), bits)
+	if num.Sign(n) > 0 {
+		s = Opposite(s)
+	}
+	return Over(Rest(s), 2)
+}

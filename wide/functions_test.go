@@ -25,6 +25,9 @@ func TestFewBitsHoldMany(t *testing.T) {
 		"Lower": func(n, d, bits int) api.Span {
 			return wide.Lower(api.Ratio{Num: n, Den: 3}, num.Of(7*n), num.Of(3*d), bits)
 		},
+		"Normal":  func(n, d, bits int) api.Span { return wide.Normal(num.Of(20-n), num.Of(2*d), bits) },
+		"Rare":    func(n, d, bits int) api.Span { return wide.Rare(api.Ratio{Num: 7 * n, Den: d}, n*d, bits) },
+		"RareOne": func(n, d, bits int) api.Span { return wide.RareOne(api.Ratio{Num: n, Den: d}, n*d, bits) },
 		"Part": func(n, d, bits int) api.Span {
 			return wide.Part(num.Of(n), num.Of(n+7*d), api.Ratio{Num: n, Den: 3}, api.Ratio{Num: d*d + n, Den: d}, bits)
 		},
@@ -100,5 +103,44 @@ func TestPartsAtTheirEnds(t *testing.T) {
 	}
 	if s := wide.Lower(a, num.Of(0), num.Of(5), 300); num.Sign(s.Lo) != 0 || num.Sign(s.Hi) != 0 {
 		t.Errorf("it is %v and must be 0", s)
+	}
+}
+
+// TestNormalOfGreatNumbers: only their quotient counts; and what is below 0 is the rest of its opposite.
+func TestNormalOfGreatNumbers(t *testing.T) {
+	great := num.Up(num.Of(12345), 90)
+	for n := -30; n <= 30; n++ {
+		a, b := wide.Normal(num.Of(n), num.Of(3), 120), wide.Normal(num.Mul(great, num.Of(n)), num.Mul(great, num.Of(3)), 120)
+		if !overlap(a, b) || !overlap(a, wide.Rest(wide.Normal(num.Of(-n), num.Of(3), 120))) || num.Len(num.Sub(b.Hi, b.Lo)) > 28 {
+			t.Errorf("of %d over 3: %v and %v", n, a, b)
+		}
+	}
+}
+
+// TestRareIsTheSum of each one, also where the sum ends by itself.
+func TestRareIsTheSum(t *testing.T) {
+	for _, a := range []api.Ratio{{Num: 1, Den: 1000}, {Num: 7, Den: 3}, {Num: 40, Den: 1}} {
+		sum := wide.Of(num.Of(0), num.Of(1), 100)
+		for n := 0; n < 250; n++ {
+			sum = wide.Add(sum, wide.RareOne(a, n, 100))
+			if s := wide.Rare(a, n, 100); !overlap(s, sum) || num.Len(num.Sub(s.Hi, s.Lo)) > 20 {
+				t.Errorf("of %v up to %d: %v and %v", a, n, s, sum)
+			}
+		}
+		if s := wide.Rare(a, 1<<30, 100); !overlap(s, wide.One(100)) || num.Cmp(s.Hi, wide.One(100).Hi) > 0 {
+			t.Errorf("of %v without an end: %v", a, s)
+		}
+	}
+}
+
+func TestRaised(t *testing.T) {
+	for a := -3; a <= 9; a++ {
+		want := 1
+		for k := 0; k <= 12; k++ {
+			if got := wide.Raised(a, k); num.Cmp(got, num.Of(want)) != 0 {
+				t.Errorf("%d to the power of %d: %v", a, k, got)
+			}
+			want *= a
+		}
 	}
 }

@@ -36,3 +36,15 @@ func small(a num.Int) int {
 	}
 	return out
 }
+
+// Raised: a to the power of k, which is from 0 on.
+func Raised(a, k int) num.Int {
+	out, square := num.Of(1), num.Of(a)
+	for ; k > 0; k /= 2 {
+		if k%2 == 1 {
+			out = num.Mul(out, square)
+		}
+		square = num.Mul(square, square)
+	}
+	return out
+}
